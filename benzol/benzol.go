@@ -3,6 +3,8 @@ package benzol
 
 import (
 	"benzol/api"
+	"benzol/graph"
+	"benzol/matching"
 	"benzol/reader"
 )
 
@@ -16,7 +18,14 @@ func Parse(text string) (api.Molecule, api.Errno, int) {
 }
 
 // Match finds a greatest matching (P5).
-func Match(n int, edges []api.Pair) ([]api.Pair, []int, api.Errno) { return nil, nil, api.OK }
+func Match(n int, edges []api.Pair) ([]api.Pair, []int, api.Errno) {
+	g, ok := graph.Of(n, edges)
+	if !ok {
+		return nil, nil, api.ErrGraph
+	}
+	pairs, u := matching.Greatest(g, n)
+	return pairs, u, api.OK
+}
 
 // Kekulize sets the double bonds (P6).
 func Kekulize(text string) (api.Result, api.Errno, int) { return api.Result{}, api.OK, 0 }
