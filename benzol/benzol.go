@@ -5,7 +5,9 @@ import (
 	"benzol/api"
 	"benzol/graph"
 	"benzol/matching"
+	"benzol/molecule"
 	"benzol/reader"
+	"benzol/writer"
 )
 
 // Parse reads a molecule (P3, P4).
@@ -28,4 +30,34 @@ func Match(n int, edges []api.Pair) ([]api.Pair, []int, api.Errno) {
 }
 
 // Kekulize sets the double bonds (P6).
-func Kekulize(text string) (api.Result, api.Errno, int) { return api.Result{}, api.OK, 0 }
+func Kekulize(text string) (api.Result, api.Errno, int) {
+	m, errno, place := reader.Read(text)
+	if errno != api.OK {
+		return api.Result{}, errno, place
+	}
+	g, candidates := m.Candidates()
+	pairs, u := matching.Greatest(g, len(m.Atoms))
+	if 2*len(pairs) < candidates {
+		return api.Result{Verdict: api.Barred, Pairs: pairs, U: u}, api.OK, 0
+	}
+	return done(text, m, pairs), api.OK, 0
+}
+
+func done(text string, m molecule.Molecule, pairs []api.Pair) api.Result {
+	orders := m.Doubled(pairs)
+	return api.Result{
+		Verdict: api.Done,
+		Orders:  orders,
+		Text:    writer.Write(text, m.Bonds, orders),
+		Order:   counted(len(m.Atoms)),
+	}
+}
+
+// counted is the order of atoms that stand as they stood.
+func counted(n int) []int {
+	list := make([]int, n)
+	for i := range list {
+		list[i] = i
+	}
+	return list
+}

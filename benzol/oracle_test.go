@@ -269,6 +269,10 @@ func ask(s string) (api.Molecule, api.Errno, int) {
 	if len(s) > api.MaxText {
 		return api.Molecule{}, api.ErrLong, 0
 	}
+	return askAnyLength(s)
+}
+
+func askAnyLength(s string) (api.Molecule, api.Errno, int) {
 	o := oracle{rings: map[string]opened{}}
 	far := 0
 	whole := slices.Contains(chainRule(s, 0, &far), len(s))

@@ -2,27 +2,41 @@
 package molecule
 
 import (
-	"slices"
-
 	"benzol/api"
 	"benzol/graph"
 )
 
-// Aromatic is the order of a bond of which it is not said if it is single or double.
-const Aromatic = 4
+// Orders of a bond. Of an aromatic one it is not said if it is single or double.
+const (
+	Single   = 1
+	Double   = 2
+	Triple   = 3
+	Aromatic = 4
+)
 
-// Atom of a molecule that is being read.
+// Placed is what atoms and bonds have in common: a byte of the text at which they stand.
+type Placed struct {
+	Place int
+}
+
+// Atom of a molecule that is being read. It keeps its place, as its valence is judged only when all bonds are known.
 type Atom struct {
 	api.Atom
-	Place     int  // of its first byte: its valence is judged only when all bonds are known
+	Placed
 	Bracketed bool // then its hydrogens are those that stand there
+}
+
+// Bond of a molecule that is being read. Its place is where a sign may be put ahead: its second atom or its closing number.
+type Bond struct {
+	api.Bond
+	Placed
 }
 
 // Molecule: atoms, their bonds, and the graph of both.
 type Molecule struct {
 	graph.Graph
 	Atoms []Atom
-	Bonds []api.Bond
+	Bonds []Bond
 }
 
 // Add puts an atom behind the others and gives its number.
@@ -32,9 +46,10 @@ func (m *Molecule) Add(a Atom) int {
 }
 
 // Bind lays a bond between two atoms that have none.
-func (m *Molecule) Bind(a, b, order int) {
+func (m *Molecule) Bind(a, b, order, place int) {
 	m.Join(a, b)
-	m.Bonds = append(m.Bonds, api.Bond{A: min(a, b), B: max(a, b), Order: order})
+	bond := api.Bond{A: min(a, b), B: max(a, b), Order: order}
+	m.Bonds = append(m.Bonds, Bond{bond, Placed{place}})
 }
 
 // BothAromatic tells if two atoms may have an aromatic bond.
@@ -48,5 +63,9 @@ func (m *Molecule) Plain() api.Molecule {
 	for i, a := range m.Atoms {
 		atoms[i] = a.Atom
 	}
-	return api.Molecule{Atoms: atoms, Bonds: slices.Clone(m.Bonds)}
+	bonds := make([]api.Bond, len(m.Bonds))
+	for i, b := range m.Bonds {
+		bonds[i] = b.Bond
+	}
+	return api.Molecule{Atoms: atoms, Bonds: bonds}
 }

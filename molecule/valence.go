@@ -51,9 +51,10 @@ func (m *Molecule) wrong(atom int) bool {
 	return !slices.Contains(valencesOf(a.Element, a.Charge), m.filled(atom))
 }
 
-// candidate tells if an aromatic atom must have one double bond more.
+// candidate tells if an atom is aromatic and must have one double bond more.
 func (m *Molecule) candidate(atom int) bool {
-	return m.filled(atom) == firstValence(m.Atoms[atom].Atom)-1
+	a := m.Atoms[atom].Atom
+	return a.Aromatic && m.filled(atom) == firstValence(a)-1
 }
 
 // finished tells if an aromatic atom has no room for another bond.

@@ -7,14 +7,14 @@ import (
 
 // atom reads an atom and its bond to the end that it hangs on.
 func (r *reader) atom(hung end) (int, bool) {
-	a := molecule.Atom{Place: r.at}
+	a := molecule.Atom{Placed: molecule.Placed{Place: r.at}}
 	a.Bracketed = r.take("[")
 	if !r.name(&a) || !r.fits(hung, a) || a.Bracketed && !r.bracket(&a) {
 		return 0, false
 	}
 	number := r.Add(a)
 	if hung.atom != noAtom {
-		r.Bind(hung.atom, number, r.order(hung.mark, hung.atom, number))
+		r.Bind(hung.atom, number, r.order(hung.mark, hung.atom, number), a.Place)
 	}
 	return number, true
 }

@@ -130,18 +130,18 @@ func isSign(b byte) bool { return b == '-' || b == '=' || b == '#' || b == ':' }
 func (r *reader) order(mark byte, a, b int) int {
 	switch mark {
 	case '-':
-		return 1
+		return molecule.Single
 	case '=':
-		return 2
+		return molecule.Double
 	case '#':
-		return 3
+		return molecule.Triple
 	case ':':
 		return molecule.Aromatic
 	}
 	if r.BothAromatic(a, b) {
 		return molecule.Aromatic
 	}
-	return 1
+	return molecule.Single
 }
 
 func (r *reader) valencesRight() bool {

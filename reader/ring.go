@@ -62,7 +62,7 @@ func (r *reader) closeRing(first, last end, place int) bool {
 	case first.atom == last.atom, r.Joined(first.atom, last.atom), clash(first.mark, last.mark):
 		return r.fail(api.ErrRing, place)
 	}
-	r.Bind(first.atom, last.atom, r.order(given(first.mark, last.mark), first.atom, last.atom))
+	r.Bind(first.atom, last.atom, r.order(given(first.mark, last.mark), first.atom, last.atom), place)
 	return true
 }
 
